@@ -1,0 +1,1 @@
+"""Madesure: trees of makers decided, each yes with trees, each no with a paper."""

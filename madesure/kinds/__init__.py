@@ -1,0 +1,1 @@
+"""Kinds: which makers make their trees, of which parts."""

@@ -1,0 +1,1 @@
+"""Trees of kinds, their sizes, their order and their parts."""

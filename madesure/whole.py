@@ -1,0 +1,11 @@
+"""Whole numbers and marks."""
+
+
+def is_whole(thing):
+    """Tell whether a thing is a whole number: an int that is no truth."""
+    return isinstance(thing, int) and not isinstance(thing, bool)
+
+
+def is_mark(thing):
+    """Tell whether a thing is a mark: a whole number from 0 on."""
+    return is_whole(thing) and thing >= 0
