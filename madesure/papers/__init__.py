@@ -1,0 +1,1 @@
+"""Papers: steps that make facts of facts, and ends by which there can be no answer."""

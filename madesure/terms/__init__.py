@@ -1,0 +1,1 @@
+"""Names, terms, formulas and sheets, and what they mean by an answer."""
