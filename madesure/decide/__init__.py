@@ -1,0 +1,1 @@
+"""Sums, classes and sheets decided."""
