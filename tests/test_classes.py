@@ -291,6 +291,12 @@ class ShutTest(unittest.TestCase):
         self.check(tree_sheet(("same", "x", ("node", "z", ("node", "y", ("node", "x", "y"))))), "ring")
         self.check(tree_sheet(("same", "x", ("node", "y", "z")), ("same", "z", "y"), ("same", ("node", "x", "x"), "z")), "ring")
         self.check(tree_sheet(("test", "node", "x"), ("same", part(1, "x"), "x")), "ring")
+        # Rings at the end of a way that leads to them.
+        self.check(tree_sheet(("same", "x", ("node", "y", LEAF)), ("same", "y", ("node", "y", LEAF))), "ring")
+        self.check(tree_sheet(("same", "x", ("node", "y", LEAF)), ("same", "y", ("node", "z", LEAF)),
+                              ("same", "z", ("node", LEAF, "y"))), "ring")
+        self.check(tree_sheet(("same", "x", ("node", "y", LEAF)), ("same", "y", ("node", LEAF, "z")),
+                              ("same", "z", ("node", ("node", "z", "z"), LEAF))), "ring")
         names = tuple((name, "tree", None) for name in "abcdef")
         formulas = tuple(("same", one, ("node", LEAF, other)) for one, other in zip("abcdef", "bcdefa"))
         self.assertEqual(length_of(self.check((BINARY, names, formulas), "ring")), 7)

@@ -18,6 +18,10 @@ Exception ValueError TypeError KeyError IndexError LookupError ZeroDivisionError
 RuntimeError NotImplementedError AttributeError StopIteration NotImplemented""".split()
 BARRED = (ast.AsyncFunctionDef, ast.AsyncFor, ast.AsyncWith, ast.Await, ast.Div, ast.MatMult, ast.Import)
 METHODS = ("__init__", "__eq__", "__repr__", "__str__", "__len__", "__enter__", "__exit__", "__call__", "__iter__")
+# The methods of builtin values that may be called.
+BUILTIN_METHODS = """append clear copy count endswith extend find get index insert isalnum isalpha isdigit islower isspace
+isupper items join keys ljust lower lstrip partition pop remove replace reverse rfind rjust rpartition rsplit rstrip
+setdefault split splitlines startswith strip update upper values zfill bit_length add discard""".split()
 FOLDED = ("all", "any", "min", "max", "sum", "sorted")
 
 
@@ -105,7 +109,8 @@ class LanguageTest(unittest.TestCase):
             top = defined_names(tree) + imported_names(tree.body)
             self.assertEqual(len(top), len(set(top)), path)
             taken = imported_names(tree.body) + [row.name for row in tree.body if isinstance(row, ast.ClassDef)]
-            inner = [name for row in tree.body if isinstance(row, ast.FunctionDef) for name in bound_names(row)]
+            functions = [node for node in ast.walk(tree) if isinstance(node, ast.FunctionDef)]
+            inner = [name for row in functions for name in bound_names(row) if name != row.name]
             self.assertEqual([name for name in inner if name in taken], [], path)
 
     def test_only_builtins_of_the_subset(self):
@@ -131,6 +136,29 @@ class LanguageTest(unittest.TestCase):
                 if isinstance(node, ast.Constant) and isinstance(node.value, str) and node not in told:
                     self.assertNotIn("%", node.value, path)
                     self.assertFalse(node.value.endswith(("._", ".__")), path)
+
+    def test_methods_and_attributes(self):
+        classes = [node for _, tree in parsed() for node in ast.walk(tree) if isinstance(node, ast.ClassDef)]
+        methods = {row.name for node in classes for row in node.body if isinstance(row, ast.FunctionDef)}
+        stored = set()
+        for node in classes:
+            own = {inner.attr for inner in ast.walk(node)
+                   if isinstance(inner, ast.Attribute) and isinstance(inner.ctx, ast.Store)}
+            self.assertEqual(own & {row.name for row in node.body if isinstance(row, ast.FunctionDef)}, set(), node.name)
+            stored |= own
+        self.assertEqual(stored & set(BUILTIN_METHODS), set())
+        for path, tree in parsed():
+            called = [node.func for node in ast.walk(tree) if isinstance(node, ast.Call)]
+            for node in ast.walk(tree):
+                if isinstance(node, ast.Attribute) and isinstance(node.ctx, ast.Load):
+                    known = methods | set(BUILTIN_METHODS) if node in called else stored
+                    self.assertIn(node.attr, known, path)
+
+    def test_tables_of_functions_are_not_called_where_they_stand(self):
+        for path, tree in parsed():
+            for node in ast.walk(tree):
+                if isinstance(node, ast.Call):
+                    self.assertIsInstance(node.func, (ast.Name, ast.Attribute), path)
 
     def test_tests_stand_beside_the_package(self):
         for path in package_files():

@@ -68,6 +68,23 @@ class EndsTest(unittest.TestCase):
         for end in NO_ENDS:
             self.assertIs(is_shut(((), end)), False, end)
 
+    def test_two_needs_both_made_or_marks(self):
+        for one, other in ((NODE, "x"), ("x", NODE), (LEAF, "x"), (LEAF, ("part", "node", 0, "x")), (("part", "node", 0, "x"), LEAF),
+                           (("part", "node", 0, "x"), ("part", "node", 1, "x")), ("m", 3), (3, "m"), ("m", "n"), (NODE, NODE),
+                           (3, 3), (NODE, ("node", LEAF, "x"))):
+            self.assertIs(is_shut(((), ("two", 0)), (("same", one, other),)), False, (one, other))
+        for one, other in ((NODE, LEAF), (LEAF, NODE), (0, 1), (10, 9)):
+            self.assertIs(is_shut(((), ("two", 0)), (("same", one, other),)), True, (one, other))
+
+    def test_made_by_two_makers_with_as_many_parts(self):
+        sheet = (MIXED, (("l", "lid", None),), ())
+        one, other = ("bare", "l"), ("void", "l")
+        self.assertIs(is_shut(((), ("two", 0)), (("same", one, other),), sheet), True)
+        facts = (("not", ("same", one, other)), ("not", ("same", one, one)), ("sum", (), -1))
+        shut = ((), ("below", 2))
+        for number, papers, wanted in ((0, (shut,), False), (0, (), False), (1, (shut,), True), (1, (), False)):
+            self.assertIs(is_shut(((), ("apart", number, papers)), facts, sheet), wanted)
+
     def test_by_facts_of_steps(self):
         sheet = (BINARY, SHEET[1], (("both", ("same", "x", NODE), ("same", "y", ("node", "x", "x"))),))
         steps = (("given", 0), ("left", 0), ("right", 0))
@@ -414,25 +431,27 @@ class ThinnedTest(unittest.TestCase):
                    facts=facts)
 
     def test_all_kinds_of_steps(self):
-        # Each step behind one that nothing goes by, and before an end that goes by the last fact.
-        facts = (("same", "x", NODE), ("test", "leaf", "y"), ("not", ("same", "x", "z")), ("sum", ((1, "y"),), 6),
-                 ("both", ("same", "x", "z"), ("sum", (), -1)), ("not", ("not", ("sum", (), -1))),
-                 ("same", ("node", "x", "y"), NODE))
-        first = (("kind", "x"), ("linked", "x", (0,)), ("linked", ("node", "x", "y"), (6,)), ("left", 4), ("right", 4),
-                 ("turned", 5), ("moved", 2, 8), ("swapped", 13), ("tested", 8), ("shaped", 15), ("taken", 8, 0),
-                 ("inner", 9, 1), ("alike", "node", (8, 8)), ("alikepart", "node", 0, 8), ("elsewhere", 1, "node", 1),
-                 ("sized", 8, True), ("cut", 3, 1), ("gap", 23), ("added", ((24, 1), (22, 2)), 0), ("counts", NODE, True),
-                 ("within", "x"), ("given", 0), ("kind", "y"))
-        end = ("sizes", "x", 3, tuple(((), ("below", 11)) for _ in range(2)))
-        paper = (first, end)
-        self.assertIs(is_shut(paper, facts), True)
-        self.check(paper, ((("right", 4),), ("sizes", "x", 3, tuple(((), ("below", 7)) for _ in range(2)))), facts=facts)
-        for last in range(7, 7 + len(first)):
-            number = last - 7
-            user = ends_by(first[number], last, facts + tuple(facts_of(facts, first)))
-            if user is not None:
-                more = (first + user, ("below", 11))
-                self.assertIs(is_shut(more, facts), True, user)
+        # Each step goes by copies of facts, and the end by its fact: whatever stands between is left out.
+        facts = FACTS + (("both", ("same", "x", "z"), ("sum", (), -1)), ("not", ("not", ("test", "leaf", "z"))),
+                         ("same", ("node", "x", "y"), NODE), ("sum", ((1, "y"),), 6), ("sum", ((2, "y"), (-4, "x")), 3))
+        steps = (("given", 0), ("within", "x"), ("left", 27), ("right", 27), ("turned", 28), ("linked", "x", (0, 29)),
+                 ("alike", "node", (0, 15)), ("alikepart", "node", 1, 0), ("inner", 29, 0), ("taken", 0, 1),
+                 ("elsewhere", 9, "node", 0), ("tested", 13), ("shaped", 10), ("moved", 10, 0), ("moved", 25, 8), ("swapped", 20),
+                 ("kind", "y"), ("counts", NODE, True), ("sized", 0, False), ("added", ((31, 1), (30, 2)), 4), ("cut", 31, 2),
+                 ("gap", 30))
+        for step in steps:
+            fact = fact_by(SHEET, facts, step)
+            self.check(built(facts, step, fact, True), built(facts, step, fact, False), facts=facts + (against(fact),))
+        self.assertEqual(len({step[0] for step in steps}), 21)
+
+    def test_all_kinds_of_ends(self):
+        for end in ENDS:
+            self.check(built_end(end, True), built_end(end, False))
+        facts = FACTS + (("both", FACTS[19], FACTS[20]),)
+        shut = ((), ("below", 16))
+        for end, steps in ((("either", 19, (shut, shut)), (("left", 27),)), (("apart", 20, (shut, shut)), (("right", 27),))):
+            paper = ((("kind", "x"),) + steps + (("kind", "y"),), (end[0], 29, end[2]))
+            self.check(paper, (steps, (end[0], 28, end[2])), facts=facts)
 
     def test_against_leaving_out_one_by_one(self):
         chance = random.Random(41)
@@ -450,17 +469,60 @@ class ThinnedTest(unittest.TestCase):
         self.assertIs(type(refusal(thinned, SHEET, SHUT)), NoPaper)
 
 
-def facts_of(facts, steps):
-    told = []
-    for step in steps:
-        told.append(fact_by(SHEET, facts + tuple(told), step))
-    return told
+DUMMY = ("linked", "z", ())
 
 
-def ends_by(step, number, facts):
-    """A step that goes by a fact of this number."""
-    word = facts[number][0]
-    return {"same": (("sized", number, True),), "test": (("shaped", number),), "sum": (("cut", number, 1),)}.get(word)
+def copied(facts, number, steps, many, has_dummies):
+    """Put steps that make this fact again behind so many facts, where that can be; tell its number then."""
+    fact = facts[number]
+    base = fact[1] if fact[0] == "not" else fact
+    if has_dummies:
+        steps.append(DUMMY)
+    if fact[0] == "same" and fact[1] != fact[2]:
+        steps.append(("linked", fact[1], (number,)))
+    elif fact[0] == "sum":
+        steps.append(("added", ((number, 1),), 0))
+    elif fact[0] == "test" or fact[0] == "not" and base[0] == "same":
+        steps.append(("linked", fact[2] if fact[0] == "test" else base[1], ()))
+        steps.append(("moved", number, many + len(steps) - 1))
+    else:
+        return number
+    return many + len(steps) - 1
+
+
+def with_copies(facts, row, steps, many, has_dummies):
+    """A step or an end that goes by copies of its facts."""
+    told = list(row)
+    for at, place in enumerate(PLACES.get(row[0], "nfnnn")[:len(row)]):
+        if place == "f":
+            told[at] = copied(facts, row[at], steps, many, has_dummies)
+        elif place == "r":
+            told[at] = tuple(copied(facts, number, steps, many, has_dummies) for number in row[at])
+        elif place == "p":
+            told[at] = tuple((copied(facts, number, steps, many, has_dummies), times) for number, times in row[at])
+    return tuple(told)
+
+
+def built(facts, step, fact, has_dummies):
+    """A paper that is shut by the fact of a step and what is against it, which stands behind the facts."""
+    steps = []
+    many = len(facts) + 1
+    told = with_copies(facts, step, steps, many, has_dummies)
+    steps += [DUMMY, told, DUMMY] if has_dummies else [told]
+    number = many + len(steps) - (2 if has_dummies else 1)
+    if fact[0] == "sum":
+        steps.append(("added", ((number, 1), (many - 1, 1)), 0))
+        return tuple(steps), ("below", many + len(steps) - 1)
+    if fact[0] == "not":
+        return tuple(steps), ("unlike", many - 1, number)
+    return tuple(steps), ("tests" if fact[0] == "test" else "unlike", number, many - 1)
+
+
+def built_end(end, has_dummies):
+    """A paper whose end goes by copies of facts."""
+    steps = []
+    told = with_copies(FACTS, end, steps, len(FACTS), has_dummies)
+    return tuple(steps), told
 
 
 def random_paper(chance, facts, depth):

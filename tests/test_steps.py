@@ -211,6 +211,21 @@ class NoStepThereTest(unittest.TestCase):
         self.check(("inner", 0, 0), facts=(("same", ("part", "node", 0, "x"), ("part", "node", 0, "y")),))
         self.check(("inner", 0, 0), ("inner", 0, 1), ("taken", 0, 0), facts=(("same", LEAF, LEAF),))
 
+    def test_two_makers_with_parts(self):
+        sheet = (MIXED, (("b", "box", None), ("l", "lid", None)), ())
+        facts = (("same", ("bare", "l"), ("void", "l")), ("same", ("void", "l"), ("void", ("plain",))))
+        self.check(("inner", 0, 0), ("inner", 1, 1), facts=facts, sheet=sheet)
+        self.assertEqual(fact_by(sheet, facts, ("inner", 1, 0)), ("same", "l", ("plain",)))
+        self.assertEqual(fact_by(sheet, facts, ("taken", 0, 0)), ("same", ("part", "void", 0, ("bare", "l")), "l"))
+
+    def test_names_that_begin_as_a_maker(self):
+        kinds = (("k", (("a", ("k", "k")), ("b", ()))),)
+        sheet = (kinds, (("ab", "k", None), ("ba", "k", None)), ())
+        facts = (("same", "ab", ("a", "ab", "ba")), ("same", ("a", "ab", "ba"), "ab"), ("same", "ab", "ab"), ("same", "ab", "ba"))
+        self.check(("inner", 0, 0), ("inner", 1, 0), ("inner", 2, 0), ("inner", 3, 0), ("taken", 1, 0), ("taken", 2, 0),
+                   ("taken", 3, 0), ("tested", 1), ("tested", 2), ("tested", 3), ("counts", "ab", True), facts=facts, sheet=sheet)
+        self.assertEqual(fact_by(sheet, facts, ("tested", 0)), ("test", "a", "ab"))
+
     def test_tests(self):
         self.check(("elsewhere", 3, "leaf", 0), ("elsewhere", 2, "node", 0), ("elsewhere", 2, "leaf", 0),
                    ("elsewhere", 3, "node", 2), ("elsewhere", 3, "node", -1), ("elsewhere", 3, "tree", 0))

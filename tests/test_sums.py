@@ -161,6 +161,15 @@ class ShowsTest(unittest.TestCase):
                      ("sizes", [], 3, (one, two)), ("sizes", "a", 3), ("sizes", "a", 3, (one, two), ())):
             self.assertIs(shows_sums(SPANS, NONE, ("no", ((), bent))), False, bent)
 
+    def test_cases_of_sizes_of_names_alone(self):
+        shut = ((("given", 0),), ("below", 1))
+        sums = (("sum", (), -1),)
+        for name, wanted in (("a", True), ("b", True), ("d", False), ("", False), (0, False), (("a",), False), (["a"], False),
+                             (None, False), (True, False), ({}, False)):
+            self.assertIs(shows_sums(SPANS, sums, ("no", ((), ("sizes", name, 2, (shut, shut))))), wanted, name)
+        for number, wanted in ((0, True), (-7, True), (10 ** 39, True), (True, False), (None, False), ("2", False), ((2,), False)):
+            self.assertIs(shows_sums(SPANS, sums, ("no", ((), ("sizes", "a", number, (shut, shut))))), wanted, number)
+
     def check_step(self, step, wanted, spans=SPANS, sums=NONE):
         """Whether a thing is a step: put in front, nothing else goes by its fact."""
         steps = tuple(after_one(other) for other in PAPER[0])
@@ -192,6 +201,7 @@ class ShowsTest(unittest.TestCase):
         for end, wanted in ((("below", 0), True), (("below", 1), False), (("below", 2), False), (("below", 3), False),
                             (("below", -3), False), (("below", True), False), (("below", None), False), (("below",), False),
                             (("below", 0, 0), False), (("two", 0), False), (("unlike", 0, 0), False), (("ring", (0,)), False),
+                            (("unlike", "a", 0), False), (("tests", "a", 3), False), (("makers", "a", 3), False),
                             (("tests", 0, 0), False), (("apart", 0, ()), False), (("makers", "a", ()), False),
                             (("either", 0, ()), False), (["below", 0], False), (None, False), ((), False)):
             paper = ((("given", 0), ("given", 1), ("given", 2)), end)
@@ -264,6 +274,9 @@ class RefusalsTest(unittest.TestCase):
 
     def test_refusals(self):
         check_refusals(self, decide_sums, (SPANS, SUMS), (self.NO_SPANS, self.NO_SUMS))
+        # Without sums nothing but the spans can be refused.
+        check_refusals(self, decide_sums, (SPANS, ()), (self.NO_SPANS, ()))
+        check_refusals(self, lambda spans, sums: shows_sums(spans, sums, ("yes", (0, 2, 3))), (SPANS, ()), (self.NO_SPANS, ()))
         check_refusals(self, lambda spans, sums: shows_sums(spans, sums, ("no", PAPER)), (SPANS, SUMS),
                        (self.NO_SPANS, self.NO_SUMS))
         check_refusals(self, lambda spans, sums: shows_sums(spans, sums, []), (SPANS, SUMS), (self.NO_SPANS, self.NO_SUMS))

@@ -25,22 +25,23 @@ def is_shut(rules, thing):
     rules has the row facts, fact_by_step(step) of the next fact or None, and cases_by_end(end) of the
     (fact, paper) of its cases, or None where it does not shut.
     """
-    waiting = [(len(rules.facts), [], thing)]
+    facts = rules.facts
+    waiting = [(len(facts), [], thing)]
     while waiting:
         many, more, paper = waiting.pop()
-        del rules.facts[many:]
-        rules.facts.extend(more)
+        del facts[many:]
+        facts.extend(more)
         if not _has_form(paper):
             return False
         for step in paper[0]:
             fact = rules.fact_by_step(step)
             if fact is None:
                 return False
-            rules.facts.append(fact)
+            facts.append(fact)
         cases = rules.cases_by_end(paper[1])
         if cases is None:
             return False
-        waiting.extend([(len(rules.facts), [own], inner) for own, inner in cases[::-1]])
+        waiting.extend([(len(facts), [own], inner) for own, inner in cases[::-1]])
     return True
 
 

@@ -14,8 +14,6 @@ def are_alike(one, other):
             if len(own) != len(its):
                 return False
             waiting.extend(list(zip(own[::-1], its[::-1])))
-        elif isinstance(own, tuple) or isinstance(its, tuple):
-            return False
         elif isinstance(own, bool) != isinstance(its, bool) or own != its:
             return False
     return True
