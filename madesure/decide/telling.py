@@ -1,7 +1,6 @@
 """Steps that tell why terms of a closure are alike."""
 
 
-
 class Telling:
     """Steps put behind so many facts: by these, for each edge the number of its fact."""
 
@@ -60,7 +59,7 @@ class Telling:
 
     def _put_edge(self, edge):
         """Put the same of the two terms of an edge, what it came by being told."""
-        one, other, reason = self.closure.edges[edge]
+        one, _, reason = self.closure.edges[edge]
         if reason[0] == "fact":
             return reason[1]
         if reason[0] == "shaped":

@@ -15,7 +15,7 @@ MOST_FACTOR = 9
 MOST_NUMBER = 500
 MOST_SIGNS = 1000
 MOST_DEPTH = 12
-OWN_FORMULAS = {NOT: 1, BOTH: 2, EITHER: 2}
+OWN_FORMULAS = {"not": 1, "both": 2, "either": 2}
 
 
 def is_formula_on(ground, thing):

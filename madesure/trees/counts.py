@@ -50,7 +50,7 @@ def sizes_of(kinds, kind, *, most=40):
 def size_bits(kinds, most):
     """Tell for mark and each kind a number whose bit at a size to most is 1 where a tree has that size."""
     bits = {MARK: 1 << 1}
-    # The same bits the other way about, a size's at most less it: see _is_together.
+    # The same bits the other way about, a size's at most less it: see _are_together.
     turned = {MARK: (1 << most) >> 1}
     for kind, _ in kinds:
         bits[kind] = turned[kind] = 0
@@ -59,7 +59,7 @@ def size_bits(kinds, most):
     rests[()] = 1
     for size in range(1, most + 1):
         for parts in rows:
-            if _is_together(turned[parts[0]] >> (most - size + 1), rests[parts[1:]]):
+            if _are_together(turned[parts[0]] >> (most - size + 1), rests[parts[1:]]):
                 rests[parts] |= 1 << (size - 1)
         for kind, makers in kinds:
             if any([(rests[parts] >> (size - 1)) & 1 for _, parts in makers]):
@@ -68,8 +68,8 @@ def size_bits(kinds, most):
     return bits
 
 
-def _is_together(turned, rest):
-    """Tell whether a size of the one and a size of the other come to the size from which turned counts down."""
+def _are_together(turned, rest):
+    """Tell whether there are two sizes with a sum, by the bits of the one counted down from it, of the other up."""
     return turned & rest != 0
 
 
