@@ -1,9 +1,10 @@
 """Stage 8: the terms of a sheet in classes of those that its standing formulas make alike."""
 
 from madesure.decide.closure import Closure
+from madesure.decide.proofs import Proof, paper_of, shut_by
+from madesure.decide.table import TermTable
 from madesure.decide.telling import Telling
 from madesure.papers.papers import shows_no
-from madesure.papers.walking import thin
 from madesure.terms.formulas import BOTH
 from madesure.terms.nested import are_alike, written
 from madesure.terms.terms import ground_of
@@ -14,18 +15,11 @@ SHUTTING = ("unlike", "two", "tests", "ring")
 def classes_of(sheet):
     """Tell ("open", classes) of the terms of a sheet, or ("shut", paper) where they cannot be."""
     ground = ground_of(sheet)
-    facts, steps = _standing(sheet[2])
-    closure = Closure(ground)
-    for name in ground.names:
-        closure.number_of(name)
-    for number, fact in enumerate(facts):
-        closure.take_fact(fact, number)
-    closure.join_all()
-    telling = Telling(closure, len(steps))
-    end = end_of(closure, telling)
+    closure, proof = closed(ground, sheet[2])
+    end = end_of(closure, Telling(closure, proof))
     if end is None:
         return "open", _classes(closure)
-    return "shut", thin((tuple(steps + telling.steps), end), 0)
+    return "shut", paper_of(proof, shut_by(proof, end))
 
 
 def shows_classes(sheet, thing):
@@ -38,53 +32,70 @@ def shows_classes(sheet, thing):
     return shows_no(sheet, thing[1]) and thing[1][1][0] in SHUTTING
 
 
+def closed(ground, formulas):
+    """Tell the classes by the standing formulas, and the proof in which their facts are."""
+    table = TermTable(ground)
+    proof = Proof(table)
+    closure = Closure(table)
+    for name in ground.names:
+        closure.number_of(name)
+    rows = [(formula, proof.put(("given", number))) for number, formula in enumerate(formulas)]
+    while rows:
+        waiting = []
+        for formula, fact in rows:
+            closure.take_fact(formula, fact)
+            if formula[0] == BOTH:
+                waiting.append((formula[1], proof.put(("left", fact))))
+                waiting.append((formula[2], proof.put(("right", fact))))
+        rows = waiting
+    closure.join_all()
+    return closure, proof
+
+
 def end_of(closure, telling):
     """Put what tells that the classes cannot be, and tell the end by it; None where they can be."""
     if closure.clash is not None:
         return "two", telling.same(*closure.clash)
     leaders = closure.leaders
-    for one, other, number in closure.unlikes:
+    for one, other, fact in closure.unlikes:
         if leaders[one] == leaders[other]:
-            return "unlike", telling.same(one, other), number
-    for maker, term, number in closure.untested:
-        made = closure.mades[leaders[term]]
-        if made is not None and closure.heads[made] == maker:
-            return "tests", telling.put(("tested", telling.same(term, made))), number
+            return "unlike", telling.same(one, other), fact
+    for maker, term, fact in closure.untested:
+        made = closure.made_in(term)
+        if made is not None and closure.table.heads[made] == maker:
+            return "tests", telling.proof.put(("tested", telling.same(term, made))), fact
     ring = _ring(closure)
     if not ring:
         return None
     return "ring", tuple([telling.same(own, made) for own, made in ring])
 
 
-def _standing(formulas):
-    """Tell the standing formulas, of both its two too, and for each the step that tells it."""
-    facts = list(formulas)
-    steps = [("given", number) for number in range(len(formulas))]
-    at = 0
-    while at < len(facts):
-        if facts[at][0] == BOTH:
-            facts.extend(facts[at][1:])
-            steps.extend([("left", at), ("right", at)])
-        at += 1
-    return facts, steps
+def made_owns(closure, leader):
+    """Tell the own terms of a made term of a class, none where it has no made term.
+
+    All its made terms have own terms in the same classes, so one of them is enough.
+    """
+    made = closure.mades[leader]
+    return () if made is None else closure.table.owns[made]
 
 
 def _classes(closure):
     """Tell the classes: terms by repr, in order of their first ones."""
-    texts = [written(term) for term in closure.terms]
+    terms = closure.table.terms
+    texts = {number: written(terms[number]) for number in closure.leaders}
     rows = []
-    for leader, members in enumerate(closure.members):
+    for leader, members in closure.members.items():
         if closure.leaders[leader] == leader:
             rows.append(sorted(members, key=lambda number: texts[number]))
     rows = sorted(rows, key=lambda members: texts[members[0]])
-    return tuple([tuple([closure.terms[number] for number in members]) for members in rows])
+    return tuple([tuple([terms[number] for number in members]) for members in rows])
 
 
 def _ring(closure):
     """Tell (own term of the made term ahead, made term) of each class of a ring, none where there is no ring."""
     # Whether a class still stands on the path, of those that the walk has come to.
     is_open = {}
-    for first in closure.leaders:
+    for first in closure.leaders.values():
         path = []
         waiting = [(None, first, False)]
         while waiting:
@@ -96,19 +107,10 @@ def _ring(closure):
                 is_open[leader] = True
                 path.append((own, leader))
                 waiting.append((own, leader, True))
-                waiting.extend([(inner, closure.leaders[inner], False) for inner in _own_of_made(closure, leader)])
+                waiting.extend([(inner, closure.leaders[inner], False) for inner in made_owns(closure, leader)])
             elif is_open[leader]:
                 return _ring_on(closure, path, own, leader)
     return []
-
-
-def _own_of_made(closure, leader):
-    """Tell the own terms of a made term of a class, none where it has no made term.
-
-    All its made terms have own terms in the same classes, so one of them is enough.
-    """
-    made = closure.mades[leader]
-    return () if made is None else closure.owns[made]
 
 
 def _ring_on(closure, path, own, leader):

@@ -25,7 +25,12 @@ class Rules:
 
 def shows_no(sheet, thing, *, facts=()):
     """Tell whether a thing is a paper of a sheet that is shut behind some facts."""
-    return is_shut(Rules(ground_of(sheet), sheet[2], facts), thing)
+    return shows_no_on(ground_of(sheet), sheet[2], thing, facts)
+
+
+def shows_no_on(ground, formulas, thing, facts):
+    """Tell whether a thing is a paper of formulas with their ground that is shut behind some facts."""
+    return is_shut(Rules(ground, formulas, facts), thing)
 
 
 def length_of(paper):

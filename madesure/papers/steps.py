@@ -64,18 +64,7 @@ def _right(ahead, step):
 
 def _turned(ahead, step):
     fact = ahead.fact(step[1], NOT)
-    if fact is None:
-        return None
-    inner = fact[1]
-    if inner[0] == NOT:
-        return inner[1]
-    if inner[0] == BOTH:
-        return EITHER, (NOT, inner[1]), (NOT, inner[2])
-    if inner[0] == EITHER:
-        return BOTH, (NOT, inner[1]), (NOT, inner[2])
-    if inner[0] == SUM:
-        return SUM, tuple([(-factor, term) for factor, term in inner[1]]), -inner[2] - 1
-    return None
+    return None if fact is None else turned(fact[1])
 
 
 def _linked(ahead, step):
@@ -211,6 +200,19 @@ def _gap(ahead, step):
     if factor not in (1, -1) or not ahead.ground.is_gap(ahead.ground.head_kind(term), factor * fact[2]):
         return None
     return put_together(fact[1], fact[2] - 1)
+
+
+def turned(inner):
+    """Tell what the not of a formula says by formulas in it, None where nothing is told so."""
+    if inner[0] == NOT:
+        return inner[1]
+    if inner[0] == BOTH:
+        return EITHER, (NOT, inner[1]), (NOT, inner[2])
+    if inner[0] == EITHER:
+        return BOTH, (NOT, inner[1]), (NOT, inner[2])
+    if inner[0] == SUM:
+        return SUM, tuple([(-factor, term) for factor, term in inner[1]]), -inner[2] - 1
+    return None
 
 
 def are_made_alike(one, other):

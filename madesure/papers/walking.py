@@ -78,11 +78,11 @@ def thin(paper, many):
         left = []
         for step in steps:
             if kept[at]:
-                left.append(_renumbered(step, counts))
+                left.append(renumbered(step, counts))
             counts.append(counts[-1] + kept[at])
             at += 1
-        thinned_rows.append((tuple(left), _renumbered(end, counts)))
-    return _put_within(thinned_rows)
+        thinned_rows.append((tuple(left), renumbered(end, counts)))
+    return put_within(thinned_rows)
 
 
 def _has_form(thing):
@@ -107,9 +107,9 @@ def _steps_kept(rows, many):
         del places[base:]
         places.extend([None] * own)
         for step in steps:
-            goes_by.append([places[number] for number in _numbers_in(step)])
+            goes_by.append([places[number] for number in numbers_in(step)])
             places.append(len(goes_by) - 1)
-        kept_by_ends.extend([places[number] for number in _numbers_in(end)])
+        kept_by_ends.extend([places[number] for number in numbers_in(end)])
     kept = [0] * len(goes_by)
     _mark(kept, kept_by_ends)
     # Steps go by facts ahead of them alone.
@@ -125,7 +125,7 @@ def _mark(kept, places):
             kept[place] = 1
 
 
-def _put_within(rows):
+def put_within(rows):
     """Make the paper of all papers in it, in whose ends the papers of their cases are not yet these."""
     done = []
     for steps, end in reversed(rows):
@@ -137,7 +137,7 @@ def _put_within(rows):
     return done.pop()
 
 
-def _numbers_in(row):
+def numbers_in(row):
     """Tell the numbers of facts by which a step or an end goes."""
     word = row[0]
     if word == PAIRS:
@@ -147,7 +147,7 @@ def _numbers_in(row):
     return [row[place] for place in NUMBERS.get(word, ())]
 
 
-def _renumbered(row, numbers):
+def renumbered(row, numbers):
     """Tell a step or an end with other numbers of facts."""
     told = list(row)
     word = row[0]

@@ -33,7 +33,17 @@ def first_false(sheet, answer):
     """Tell the number of the first formula of a sheet that does not hold by an answer, None where all hold."""
     ground = ground_of(sheet)
     _check_answer(ground, answer)
-    for number, formula in enumerate(sheet[2]):
+    return first_false_on(ground, sheet[2], answer)
+
+
+def fits_on(ground, formulas, thing):
+    """Tell whether a thing is an answer by which formulas hold."""
+    return is_answer_on(ground, thing) and first_false_on(ground, formulas, thing) is None
+
+
+def first_false_on(ground, formulas, answer):
+    """Tell the number of the first of some formulas that does not hold by an answer, None where all hold."""
+    for number, formula in enumerate(formulas):
         if not holds_on(ground, formula, answer):
             return number
     return None

@@ -25,7 +25,7 @@ def tree_at(kinds, kind, size, number, *, marks=MARKS):
     tally = Tally(kinds, size, _marks_to_look_at(marks))
     _check_number(number, tally.trees[kind][size] - 1)
     _check_number(marks, MOST_MARKS)
-    return _tree_by_heads(tally.makers, _heads_at(tally, kind, size, number))
+    return tree_in(tally, kind, size, number)
 
 
 def number_of(kinds, kind, tree, *, marks=MARKS):
@@ -71,6 +71,11 @@ def size_bits(kinds, most):
 def _are_together(turned, rest):
     """Tell whether there are two sizes with a sum, by the bits of the one counted down from it, of the other up."""
     return turned & rest != 0
+
+
+def tree_in(tally, kind, size, number):
+    """Tell the tree of a kind that has a number among those of a size that are tallied."""
+    return _tree_by_heads(tally.makers, _heads_at(tally, kind, size, number))
 
 
 class Tally:

@@ -1,0 +1,1 @@
+"""Sheets that are kept while they grow and are taken back."""
