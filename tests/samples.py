@@ -4,6 +4,7 @@ from itertools import combinations
 
 from madesure.errors import NoFormula, NoKinds, NoNames, NoNumber, NoSheet
 from madesure.kinds.kinds import is_kinds
+from madesure.terms.meaning import holds
 
 BINARY = (("tree", (("node", ("tree", "tree")), ("leaf", ()))),)
 CHAIN = (("chain", (("next", ("chain",)), ("end", ()))),)
@@ -282,3 +283,88 @@ def answers_to(sheet, most, marks=2, limit=400):
         trees = trees_in_order(sheet[0], kind, most if bound is None else min(most, bound), marks)
         rows = [dict(row, **{name: tree}) for row in rows for tree in trees[:limit]][:limit]
     return rows
+
+
+def all_of(formulas):
+    """One formula that holds where all of these do, no deeper than need be."""
+    formulas = list(formulas)
+    if len(formulas) == 1:
+        return formulas[0]
+    half = len(formulas) // 2
+    return ("both", all_of(formulas[:half]), all_of(formulas[half:]))
+
+
+def unlike(one, other):
+    return ("not", ("same", one, other))
+
+
+def exactly(number, *rows):
+    """The two sums by which rows come to a number."""
+    turned = tuple((-factor, term) for factor, term in rows)
+    return ("sum", tuple(rows), number), ("sum", turned, -number)
+
+
+def chain_on(term, many):
+    """A term of CHAIN with so many makers around another one."""
+    for _ in range(many):
+        term = ("next", term)
+    return term
+
+
+def doubled(term, many):
+    """A term of BINARY, the two parts of which are alike, so many times over."""
+    for _ in range(many):
+        term = ("node", term, term)
+    return term
+
+
+def depth_of(thing):
+    """How many tuples stand within one another in a thing."""
+    depth = 0
+    row = [thing]
+    while any(isinstance(inner, tuple) for inner in row):
+        depth += 1
+        row = list({id(inner): inner for node in row if isinstance(node, tuple) for inner in node}.values())
+    return depth
+
+
+def fits_plainly(sheet, answer):
+    """Whether a dict is an answer by which all formulas hold."""
+    if set(answer) != {name for name, _, _ in sheet[1]}:
+        return False
+    for name, kind, most in sheet[1]:
+        if not is_tree_plainly(sheet[0], kind, answer[name]) or most is not None and plain_size(answer[name]) > most:
+            return False
+    return all(plain_holds(sheet, formula, answer) for formula in sheet[2])
+
+
+def is_tree_plainly(kinds, kind, tree):
+    if kind == "mark":
+        return type(tree) is int and tree >= 0
+    parts = dict(dict(kinds)[kind]).get(tree[0]) if isinstance(tree, tuple) and tree else None
+    if parts is None or len(tree) != len(parts) + 1:
+        return False
+    return all(is_tree_plainly(kinds, part, inner) for part, inner in zip(parts, tree[1:]))
+
+
+def near_sheet(random, kinds=None, names=3, formulas=4):
+    """A sheet and an answer by which most of its formulas hold, often all."""
+    while kinds is None or not is_kinds(kinds):
+        kinds = random_kinds(random)
+    planted = {}
+    rows = []
+    for name in ("x", "y", "z", "u", "v", "w")[:random.randint(1, names)]:
+        kind = random.choice([kind for kind, _ in kinds] + ["mark"])
+        trees = trees_in_order(kinds, kind, 5, 2)
+        if trees:
+            planted[name] = random.choice(trees[:30])
+            size = plain_size(planted[name])
+            rows.append((name, kind, random.choice((None, size, size + 1, size + 3))))
+    sheet = (kinds, tuple(rows), ())
+    found = []
+    for _ in range(random.randint(1, formulas)):
+        own = [random_formula(random, sheet, 3) for _ in range(8)]
+        own = [formula for formula in own if formula is not None]
+        held = [formula for formula in own if holds(sheet, formula, planted)]
+        found += own[:1] if random.random() < 0.25 else held[:1]
+    return (kinds, tuple(rows), tuple(found)), planted

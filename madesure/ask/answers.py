@@ -7,7 +7,6 @@ from madesure.papers.papers import shows_no, shows_no_on
 from madesure.terms.formulas import SUM
 from madesure.terms.ground import Ground
 from madesure.terms.meaning import first_false_on, fits_on
-from madesure.terms.nested import are_alike
 from madesure.terms.terms import MOST_MOST, ground_of
 from madesure.trees.counts import MARKS, MOST_MARKS
 from madesure.trees.trees import nodes_of
@@ -25,13 +24,13 @@ def least(sheet, *, most=WIDTH):
         return told
     # Of sheets within ever more the width falls never: so an answer beyond this size is too great, however small it is.
     size = MOST_MOST
-    while width_on(*_within(sheet, ground, size - 1)) > most:
+    while _width_within(sheet, ground, size - 1) > most:
         size -= 1
-    word, answer = decided(*_within(sheet, ground, size))
+    word, answer = _decided_within(sheet, ground, size)
     if word == "no":
         raise TooWide("the least answer is too great")
     while True:
-        word, told = decided(*_within(sheet, ground, _size_of(answer) - 1))
+        word, told = _decided_within(sheet, ground, _size_of(answer) - 1)
         if word == "no":
             return "least", answer, told
         answer = told
@@ -91,6 +90,16 @@ def _within(sheet, ground, n):
         rows.append((name, kind, room if most is None else min(most, room)))
     together = (SUM, tuple([(1, name) for name, _, _ in names]), n)
     return Ground(kinds, tuple(rows)), formulas + (together,)
+
+
+def _width_within(sheet, ground, n):
+    inner_ground, formulas = _within(sheet, ground, n)
+    return width_on(inner_ground, formulas)
+
+
+def _decided_within(sheet, ground, n):
+    inner_ground, formulas = _within(sheet, ground, n)
+    return decided(inner_ground, formulas)
 
 
 def _size_of(answer):

@@ -68,7 +68,7 @@ class Filling:
         """Put trees for all open classes; tell a class for which there is none left, None where all have one."""
         weights = self._weights()
         keys = {leader: self._key(leader, weights) for leader in self.opens}
-        for leader in sorted(self.opens, key=lambda leader: keys[leader]):
+        for leader in sorted(self.opens, key=lambda own: keys[own]):
             if not self._put(leader):
                 return leader
         return None

@@ -70,13 +70,13 @@ def decided(ground, formulas):
 
 
 class Frame:
-    """A state that is gone on from by cases, each with a formula; fact is that of the case looked at last."""
+    """A state that is gone on from by cases, each with a formula; case_fact is that of the one looked at last."""
 
     def __init__(self, state, end, formulas):
         self.state = state
         self.end = end
         self.formulas = formulas
-        self.fact = None
+        self.case_fact = None
         self.done = []
 
 
@@ -119,7 +119,7 @@ class Search:
         end = self.state.find_end()
         if end is not None:
             return shut_by(self.proof, end)
-        split = self.state.split()
+        split = self.state.cases()
         if split is None:
             filling, split = self.state.fill(self.stock)
             if filling is not None:
@@ -142,15 +142,15 @@ class Search:
         formula = frame.formulas[len(frame.done)]
         is_last = len(frame.done) + 1 == len(frame.formulas)
         self.state = frame.state if is_last else frame.state.copied()
-        frame.fact = self.proof.put_case(len(self.frames))
-        self.state.take(formula, frame.fact)
+        frame.case_fact = self.proof.put_case(len(self.frames))
+        self.state.take(formula, frame.case_fact)
 
     def _back(self, shut):
         """Go back by what shuts a case to the next one, and tell None; where there is none tell what shuts all."""
         while self.frames:
             frame = self.frames[-1]
-            if shut.mask & self.proof.masks[frame.fact] != 0:
-                frame.done.append((frame.fact, shut))
+            if shut.mask & self.proof.masks[frame.case_fact] != 0:
+                frame.done.append((frame.case_fact, shut))
                 if len(frame.done) < len(frame.formulas):
                     self._begin_case()
                     return None

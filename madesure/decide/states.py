@@ -69,7 +69,7 @@ class State:
         self.bounds.narrow()
         return None if self.bounds.clash is None else Measuring(self.bounds, telling).find_end()
 
-    def split(self):
+    def cases(self):
         """Tell (end, formulas) of cases by which what is not told yet comes to be told; None where all is."""
         if self.is_without_sizes:
             return self._split_by_sizes()

@@ -76,7 +76,7 @@ def _read(ground, text, want):
     reading = Reading(ground, want)
     for word in text.split(" "):
         reading.take(word)
-    return reading.told()
+    return reading.whole()
 
 
 class Reading:
@@ -111,7 +111,7 @@ class Reading:
             own, _ = self.frames.pop()
             self.frames[-1][0].append(_put_together(own))
 
-    def told(self):
+    def whole(self):
         """Tell what is read, all words being read."""
         things, wants = self.frames[-1]
         if wants or len(things) != 1:

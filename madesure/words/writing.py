@@ -19,7 +19,7 @@ def written_text(thing):
 def sheet_rows(sheet):
     """Write the rows of a sheet: kinds, names, formulas."""
     kinds, names, formulas = sheet
-    rows = ["kind " + name + " " + " , ".join([_maker_text(*made) for made in makers]) for name, makers in kinds]
+    rows = ["kind " + name + " " + _makers_text(makers) for name, makers in kinds]
     rows.extend([" ".join(["name", name, kind] + _most_words(most)) for name, kind, most in names])
     rows.extend(["put " + written_text(formula) for formula in formulas])
     return rows
@@ -33,8 +33,8 @@ def _in_order(node):
     return [word, len(rows)] + [thing for row in rows for thing in row] + [number]
 
 
-def _maker_text(maker, parts):
-    return " ".join([maker, *parts])
+def _makers_text(makers):
+    return " , ".join([" ".join([maker, *parts]) for maker, parts in makers])
 
 
 def _most_words(most):
