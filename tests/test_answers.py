@@ -144,7 +144,7 @@ class LeastTest(unittest.TestCase):
             self.assertIs(shows_least(sheet, other), False, other)
         for odd in NEVER + ("other",):
             for other in spoiled(told, lambda inner: odd):
-                self.assertIs(shows_least(sheet, other), False, other)
+                self.assertIs(shows_least(sheet, other), repr(other) == repr(told), other)
             self.assertIs(shows_least(sheet, (word, {**answer, "z": odd}, paper)), False, odd)
         greater = {**answer, "z": ("node", LEAF, LEAF), "x": ("node", answer["y"], ("node", LEAF, LEAF))}
         self.assertTrue(fits_plainly(sheet, greater))
