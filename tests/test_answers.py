@@ -286,6 +286,11 @@ class AllTest(unittest.TestCase):
         error = refusal(lambda: answer_at(marks, 1, 10 ** 5, marks=None))
         self.assertEqual((type(error), error.number), (NoNumber, None))
         self.assertIs(type(refusal(lambda: answer_number(marks, 1, {"m": 10 ** 6}, marks=-1))), NoAnswer)
+        # What is no number, or no answer, at all goes ahead of too many dicts; what is not there is told by these.
+        for call, wanted in ((lambda: answer_at(marks, 1, -1, marks=10 ** 6), NoNumber), (lambda: answer_at(marks, 1, 10 ** 9, marks=10 ** 6), TooMany),
+                             (lambda: answer_number(marks, 1, {"m": -1}, marks=10 ** 6), NoAnswer),
+                             (lambda: answer_number(marks, 1, {"m": 10 ** 7}, marks=10 ** 6), TooMany)):
+            self.assertIs(type(refusal(call)), wanted)
         self.assertIs(type(refusal(lambda: answer_number(marks, 1, {"m": 10 ** 6 - 1}, marks=-1))), NoNumber)
 
     def test_nothing_is_changed(self):

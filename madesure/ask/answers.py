@@ -6,11 +6,11 @@ from madesure.errors import NoAnswer, NoNumber, TooMany, TooWide
 from madesure.papers.papers import shows_no, shows_no_on
 from madesure.terms.formulas import SUM
 from madesure.terms.ground import Ground
-from madesure.terms.meaning import first_false_on, fits_on
+from madesure.terms.meaning import check_answer, first_false_on, fits_on
 from madesure.terms.terms import MOST_MOST, ground_of
 from madesure.trees.counts import MARKS, MOST_MARKS
 from madesure.trees.trees import nodes_of
-from madesure.whole import is_whole
+from madesure.whole import is_mark, is_whole
 
 MANY = 5000
 
@@ -60,11 +60,13 @@ def many_answers(sheet, n, *, marks=MARKS):
 def answer_at(sheet, n, number, *, marks=MARKS):
     """Tell the answer with a number among those to a size, marked below marks, in order."""
     ground = _check_size(sheet, n)
+    if not is_mark(number):
+        raise NoNumber(number)
     if not _is_number(marks, MOST_MARKS):
         _check_at_most_marks(sheet, ground, n, number)
     _check_marks(marks)
     rows = _all_answers(sheet, ground, n, marks)
-    if not _is_number(number, len(rows) - 1):
+    if number >= len(rows):
         raise NoNumber(number)
     return rows[number]
 
@@ -72,6 +74,7 @@ def answer_at(sheet, n, number, *, marks=MARKS):
 def answer_number(sheet, n, answer, *, marks=MARKS):
     """Tell the number of an answer among those to a size, marked below marks, in order."""
     ground = _check_size(sheet, n)
+    check_answer(ground, answer)
     if not _is_number(marks, MOST_MARKS):
         _check_answer(ground, sheet[2], n, answer, MOST_MARKS)
     _check_marks(marks)
@@ -131,8 +134,6 @@ def _check_marks(marks):
 
 def _check_at_most_marks(sheet, ground, n, number):
     """Refuse a number that there isn't by any marks: it is handed in ahead of marks."""
-    if not is_whole(number) or number < 0:
-        raise NoNumber(number)
     if Dicts(ground, n, MOST_MARKS).how_many() <= MANY:
         if number >= len(_all_answers(sheet, ground, n, MOST_MARKS)):
             raise NoNumber(number)
@@ -140,7 +141,7 @@ def _check_at_most_marks(sheet, ground, n, number):
 
 def _check_answer(ground, formulas, n, answer, marks):
     """Refuse what is not among the answers to a size, marked below marks."""
-    if not fits_on(ground, formulas, answer) or _size_of(answer) > n:
+    if first_false_on(ground, formulas, answer) is not None or _size_of(answer) > n:
         raise NoAnswer("this is no answer to that size")
     nodes = [node for tree in answer.values() for node in nodes_of(tree)]
     if not all([isinstance(node, tuple) or node < marks for node in nodes]):

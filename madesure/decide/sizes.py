@@ -34,13 +34,14 @@ class Bounds:
     lows and highs have (bound, place in the trail); trail has (leader, is_high, bound, source, places):
     places are those of the bounds by which that one came, source is ("kind",), ("gap", how often), ("rule",
     number), or None where no step tells it. clash is ("rule", number) or ("bounds", leader) where
-    these cannot be, or None.
+    these cannot be, or None. free are the leaders of classes with a name or a part term.
     """
 
-    def __init__(self, closure, rules):
+    def __init__(self, closure, rules, free):
         self.closure = closure
         self.ground = closure.table.ground
         self.rules = rules
+        self.free = free
         self.lows = {}
         self.highs = {}
         self.trail = []
@@ -48,7 +49,7 @@ class Bounds:
 
     def bounded(self, leader, is_high, bound):
         """Tell the same with one bound more, which no step tells."""
-        other = Bounds(self.closure, self.rules)
+        other = Bounds(self.closure, self.rules, self.free)
         other.lows = dict(self.lows)
         other.highs = dict(self.highs)
         other.trail = list(self.trail)
@@ -97,9 +98,12 @@ class Bounds:
                     for rule in self.rules])
 
     def middle(self):
-        """Tell the leader with the widest bounds, and the middle of these."""
-        widths = {leader: high - self.lows[leader][0] for leader, (high, _) in self.highs.items()}
-        widest = max(list(widths), key=lambda leader: widths[leader])
+        """Tell the leader with the widest bounds, of the free classes, and the middle of these.
+
+        What other classes have as size hangs on these alone, which are no greater than names may be.
+        """
+        widths = {leader: self.highs[leader][0] - self.lows[leader][0] for leader in self.free}
+        widest = max(self.free, key=lambda leader: widths[leader])
         return widest, self.lows[widest][0] + widths[widest] // 2
 
     def bound_against(self, factor, leader):
@@ -156,10 +160,11 @@ def bounds_of(closure, sums):
     leaders = _leaders_within(closure, [leader for rule in rules for _, leader in rule.rows])
     for leader in leaders:
         rules.extend(_rules_of_class(closure, leader))
-    bounds = Bounds(closure, rules)
-    sizes = closure.table.ground.sizes
+    table = closure.table
+    free = [leader for leader in leaders if any([table.is_free(member) for member in closure.members[leader]])]
+    bounds = Bounds(closure, rules, free)
     for leader in leaders:
-        bounds.put(leader, False, sizes[closure.table.kinds[leader]], ("kind",), ())
+        bounds.put(leader, False, table.ground.sizes[table.kinds[leader]], ("kind",), ())
     return bounds
 
 

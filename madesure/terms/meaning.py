@@ -17,7 +17,7 @@ def worth_of(sheet, term, answer):
     """Tell the tree that a term of a sheet is worth by an answer."""
     ground = ground_of(sheet)
     check_term(ground, term)
-    _check_answer(ground, answer)
+    check_answer(ground, answer)
     return worth_on(ground, term, answer)
 
 
@@ -25,14 +25,14 @@ def holds(sheet, formula, answer):
     """Tell whether a formula of a sheet holds by an answer."""
     ground = ground_of(sheet)
     check_formula(ground, formula)
-    _check_answer(ground, answer)
+    check_answer(ground, answer)
     return holds_on(ground, formula, answer)
 
 
 def first_false(sheet, answer):
     """Tell the number of the first formula of a sheet that does not hold by an answer, None where all hold."""
     ground = ground_of(sheet)
-    _check_answer(ground, answer)
+    check_answer(ground, answer)
     return first_false_on(ground, sheet[2], answer)
 
 
@@ -102,7 +102,7 @@ def _part_of(ground, maker, k, tree):
     return ground.least[ground.makers[maker][2][k]]
 
 
-def _check_answer(ground, answer):
+def check_answer(ground, answer):
     """Refuse what is no answer."""
     if not is_answer_on(ground, answer):
         raise NoAnswer("this is no answer of the sheet")

@@ -2,7 +2,7 @@
 
 from madesure.errors import NoText
 from madesure.kinds.kinds import is_kinds
-from madesure.terms.formulas import BOTH, EITHER, MOST_ROWS, NOT, SAME, SUM, TEST, is_formula_on
+from madesure.terms.formulas import MOST_ROWS, SUM, is_formula_on
 from madesure.terms.ground import PART
 from madesure.terms.nested import is_within
 
@@ -13,8 +13,8 @@ MAKER = "maker"
 NUMBER = "number"
 MANY = "many"
 # What is wanted behind the words that begin a formula.
-BEHIND = {SAME: (TERM, TERM), TEST: (MAKER, TERM), SUM: (MANY,), NOT: (FORMULA,), BOTH: (FORMULA, FORMULA),
-          EITHER: (FORMULA, FORMULA)}
+BEHIND = {"same": ("term", "term"), "test": ("maker", "term"), "sum": ("many",), "not": ("formula",),
+          "both": ("formula", "formula"), "either": ("formula", "formula")}
 # How many tuples within one another a term may have that is read.
 MOST_DEPTH = 200
 MOST_FIGURES = 4000
