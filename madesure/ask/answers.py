@@ -10,7 +10,7 @@ from madesure.terms.meaning import check_answer, first_false_on, fits_on
 from madesure.terms.terms import MOST_MOST, ground_of
 from madesure.trees.counts import MARKS, MOST_MARKS
 from madesure.trees.trees import nodes_of
-from madesure.whole import is_mark, is_whole
+from madesure.whole import is_mark, is_number_to
 
 MANY = 5000
 
@@ -62,7 +62,7 @@ def answer_at(sheet, n, number, *, marks=MARKS):
     ground = _check_size(sheet, n)
     if not is_mark(number):
         raise NoNumber(number)
-    if not _is_number(marks, MOST_MARKS):
+    if not is_number_to(marks, MOST_MARKS):
         _check_at_most_marks(sheet, ground, n, number)
     _check_marks(marks)
     rows = _all_answers(sheet, ground, n, marks)
@@ -75,7 +75,7 @@ def answer_number(sheet, n, answer, *, marks=MARKS):
     """Tell the number of an answer among those to a size, marked below marks, in order."""
     ground = _check_size(sheet, n)
     check_answer(ground, answer)
-    if not _is_number(marks, MOST_MARKS):
+    if not is_number_to(marks, MOST_MARKS):
         _check_answer(ground, sheet[2], n, answer, MOST_MARKS)
     _check_marks(marks)
     rows = _all_answers(sheet, ground, n, marks)
@@ -121,14 +121,14 @@ def _all_answers(sheet, ground, n, marks):
 def _check_size(sheet, n):
     """Refuse what is no sheet, then what is no size; else tell the ground."""
     ground = ground_of(sheet)
-    if not _is_number(n, MOST_MOST):
+    if not is_number_to(n, MOST_MOST):
         raise NoNumber(n)
     return ground
 
 
 def _check_marks(marks):
     """Refuse what are no marks."""
-    if not _is_number(marks, MOST_MARKS):
+    if not is_number_to(marks, MOST_MARKS):
         raise NoNumber(marks)
 
 
@@ -146,7 +146,3 @@ def _check_answer(ground, formulas, n, answer, marks):
     nodes = [node for tree in answer.values() for node in nodes_of(tree)]
     if not all([isinstance(node, tuple) or node < marks for node in nodes]):
         raise NoAnswer("this answer has other marks")
-
-
-def _is_number(thing, most):
-    return is_whole(thing) and 0 <= thing <= most

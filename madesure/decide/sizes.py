@@ -133,7 +133,7 @@ class Bounds:
         for at, (factor, leader) in enumerate(rule.rows):
             space = room + factor * bounds[at][0]
             if self._is_narrower(factor, leader, space):
-                places = tuple([bound[1] for bound in bounds[:at] + bounds[at + 1:]])
+                places = tuple([place for _, place in bounds[:at] + bounds[at + 1:]])
                 bound = space // factor if factor > 0 else -(space // -factor)
                 self.put(leader, factor > 0, bound, ("rule", number), places)
                 is_changed = True

@@ -3,7 +3,7 @@
 from madesure.errors import NoNumber, NoTree
 from madesure.kinds.kinds import MARK, check_kind, maker_table
 from madesure.trees.trees import check_tree, nodes_of
-from madesure.whole import is_whole
+from madesure.whole import is_number_to, is_whole
 
 MARKS = 1
 MOST_SIZE = 200
@@ -114,7 +114,7 @@ def _marks_to_look_at(marks):
 
     What there isn't by any marks is refused ahead of marks, which are handed in behind it.
     """
-    return marks if _is_number(marks, MOST_MARKS) else MOST_MARKS
+    return marks if is_number_to(marks, MOST_MARKS) else MOST_MARKS
 
 
 def _heads_at(tally, kind, size, number):
@@ -199,11 +199,7 @@ def _number_made(tally, maker, parts):
     return total, told
 
 
-def _is_number(thing, most):
-    return is_whole(thing) and 0 <= thing <= most
-
-
 def _check_number(thing, most):
     """Refuse what is no whole number from 0 to most."""
-    if not _is_number(thing, most):
+    if not is_number_to(thing, most):
         raise NoNumber(thing)
