@@ -2,6 +2,7 @@ import copy
 import inspect
 import random
 import unittest
+from unittest import mock
 
 from madesure.decide.search import decide, shows, width_of
 from madesure.errors import NoCore, NoDeed, NoFormula, NoKinds, NoLevel, NoNames, TooWide
@@ -17,7 +18,7 @@ OTHER = ("formula", ("test", "leaf", "x"))
 NO_DEEDS = NEVER + (
     "name", "level", ("name",), ("name", "x"), ("name", "x", "tree"), ("name", "x", "tree", None, None), ("formula",),
     ("formula", TEST[1], TEST[1]), ("level", 1), ("leave", None), ("back", ()), ("all",), ("all", (), ()), ("jump",), ("none",), ("none", 1),
-    ("level", "leave"), ["level"], [X], (["level"],), (("level",),), ("Level",), (0,), (True,), ("do", X), ("put", TEST[1]), {"level": 1})
+    ("level", "leave"), ["level"], [X], (["level"],), (("level",),), ("Level",), (0,), (True,), ("do", X), ("put", TEST[1]), {"level": 1}, ())
 
 
 def asker_of(*deeds, kinds=BINARY, **more):
@@ -226,6 +227,21 @@ class DeedsTest(unittest.TestCase):
                 self.assertEqual((asker.sheet(), asker.levels()), ((kinds, names, formulas), len(levels)), deed)
                 self.assertEqual(len(asker), len(formulas))
         self.assertGreater(min(refused.get(error, 0) for error in (None, NoDeed, NoNames, NoFormula, NoLevel)), 50, refused)
+
+
+    def test_busy_within_a_deed(self):
+        asker = Asker(BINARY)
+        self.assertIs(asker.is_busy(), False)
+        seen = []
+
+        def looking(*args):
+            seen.append(asker.is_busy())
+            return are_names(*args)
+        with mock.patch.object(module, "are_names", looking):
+            asker.do(X)
+            self.assertIsNotNone(refusal(asker.do, X))
+            asker.all_of((Y,))
+        self.assertEqual((seen, asker.is_busy()), ([True] * 3, False))
 
 
 class LogTest(unittest.TestCase):

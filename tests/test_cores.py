@@ -202,6 +202,10 @@ class CoreTest(unittest.TestCase):
         numbers, paper, answers = told
         for numbers_here in ((2, 0), (0, 0, 2), (0, 2, 2), (0,), (2,), (), (0, 1), (1, 2), (0, 3), (-1, 2), (False, 2), [0, 2], 0, None):
             self.assertIs(shows_core(sheet, (numbers_here, paper, answers)), False, numbers_here)
+        again = (("given", 0), ("given", 2)), ("unlike", 0, 1)
+        renumbered = decide((*sheet[:2], (sheet[2][0], sheet[2][0], sheet[2][2])))[1]
+        self.assertIs(shows_core(sheet, ((0, 0, 2), renumbered, answers[:1] + answers)), False)
+        self.assertIs(shows_core(sheet, (numbers, again, answers)), False)
         # All three can't be, but one may be left out.
         whole = decide(sheet)[1]
         self.assertIs(shows_core(sheet, ((0, 1, 2), whole, answers[:1] + answers[:1] + answers[1:])), False)

@@ -207,6 +207,8 @@ class ShowsTest(unittest.TestCase):
         rows = (("x", ("node", "y", LEAF)), ("y", ("node", "u", "u")), ("z", LEAF))
         self.assertIs(shows_general(self.SHEET, told), True)
         self.assertIs(shows_general(self.SHEET, ("general", rows, steps)), True)
+        self.assertIs(shows_general(self.SHEET, ("general", rows, steps + (("swapped", 0),))), False)
+        self.assertIs(shows_general(self.SHEET, ("general", rows, steps + (("given", 0), ("linked", "u", ())))), True)
         # In another order, the steps in that order too.
         self.assertIs(shows_general(self.SHEET, ("general", (rows[2],) + rows[:2], steps)), False)
         self.assertIs(shows_general(self.SHEET, ("general", (rows[2],) + rows[:2], steps + (("linked", "x", (0,)), ("inner", 1, 0)))), True)

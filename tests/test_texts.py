@@ -14,7 +14,9 @@ TERMS = (("x", "x"), (0, "0"), (7, "7"), (10 ** 39, "1" + "0" * 39), (LEAF, "lea
          (("part", "node", 0, "x"), "part node 0 x"), (("part", "node", 1, ("node", ("part", "node", 0, "z"), "x")), "part node 1 node part node 0 z x"),
          (("node", ("node", LEAF, "x"), ("node", "y", "z")), "node node leaf x node y z"), ("m", "m"))
 FORMULAS = ((("same", "x", "y"), "same x y"), (("same", "m", 3), "same m 3"), (("test", "leaf", "x"), "test leaf x"), (("sum", (), 0), "sum 0 0"),
-            (("sum", (), -500), "sum 0 -500"), (("sum", ((3, "x"), (-1, "z")), 7), "sum 2 3 x -1 z 7"),
+            (("sum", (), -500), "sum 0 -500"),
+            (("sum", tuple((1, ("node", "x", at)) for at in ("x", "z", LEAF)) + ((1, "x"), (2, "z"), (-3, LEAF)), 5),
+             "sum 6 1 node x x 1 node x z 1 node x leaf 1 x 2 z -3 leaf 5"), (("sum", ((3, "x"), (-1, "z")), 7), "sum 2 3 x -1 z 7"),
             (("sum", ((9, ("node", "x", "z")), (-9, 4)), -1), "sum 2 9 node x z -9 4 -1"), (("not", ("same", "x", "y")), "not same x y"),
             (("both", ("test", "node", "x"), ("sum", ((1, "z"),), 0)), "both test node x sum 1 1 z 0"),
             (("either", ("not", ("not", ("same", 1, 2))), ("both", ("same", "x", LEAF), ("test", "leaf", ("part", "node", 1, "y")))),

@@ -10,16 +10,11 @@ class Measuring:
         self.facts = {}
 
     def find_end(self):
-        """Put what tells that the bounds cannot be, and tell the end by it."""
-        word, told = self.bounds.clash
-        if word == "bounds":
-            places = [self.bounds.lows[told][1], self.bounds.highs[told][1]]
-            self._put_all(places)
-            return "below", self._put(("added", tuple([(self.facts[place], 1) for place in places]), 0))
-        rows = self.bounds.rules[told].rows
-        places = [self.bounds.bound_against(factor, leader)[1] for factor, leader in rows]
+        """Put what tells that a rule cannot hold by the bounds, and tell the end by it."""
+        rule = self.bounds.rules[self.bounds.clash]
+        places = [self.bounds.bound_against(factor, leader)[1] for factor, leader in rule.rows]
         self._put_all(places)
-        return "below", self._without(self.bounds.rules[told], rows, places)
+        return "below", self._without(rule, rule.rows, places)
 
     def _put(self, step):
         return self.telling.proof.put(step)

@@ -33,8 +33,9 @@ class Bounds:
 
     lows and highs have (bound, place in the trail); trail has (leader, is_high, bound, source, places):
     places are those of the bounds by which that one came, source is ("kind",), ("gap", how often), ("rule",
-    number), or None where no step tells it. clash is ("rule", number) or ("bounds", leader) where
-    these cannot be, or None. free are the leaders of classes with a name or a part term.
+    number), or None where no step tells it. Each bound is the size of some tree of the kind: so the least
+    one is never beyond the most. clash is the number of a rule that cannot hold, or None. free are the
+    leaders of classes with a name or a part term.
     """
 
     def __init__(self, closure, rules, free):
@@ -48,7 +49,7 @@ class Bounds:
         self.clash = None
 
     def bounded(self, leader, is_high, bound):
-        """Tell the same with one bound more, which no step tells."""
+        """Tell the same with one bound more, not beyond the others, which no step tells."""
         other = Bounds(self.closure, self.rules, self.free)
         other.lows = dict(self.lows)
         other.highs = dict(self.highs)
@@ -66,8 +67,6 @@ class Bounds:
             many += 1
         if many > 0:
             self._keep(leader, is_high, bound, ("gap", many), (len(self.trail) - 1,))
-        if not self._is_between(leader, bound):
-            self.clash = ("bounds", leader)
 
     def narrow(self):
         """Narrow the bounds by the rules, until none does or they cannot be."""
@@ -127,7 +126,7 @@ class Bounds:
             return False
         room = rule.most - sum([row[0] * bound[0] for row, bound in zip(rule.rows, bounds)])
         if room < 0:
-            self.clash = ("rule", number)
+            self.clash = number
             return True
         is_changed = False
         for at, (factor, leader) in enumerate(rule.rows):
@@ -141,8 +140,6 @@ class Bounds:
 
     def _is_narrower(self, factor, leader, space):
         """Tell whether it narrows the bounds of a leader that factor times its size is at most the space."""
-        if self.clash is not None:
-            return False
         if factor < 0:
             return -(space // -factor) > self.lows[leader][0]
         return leader not in self.highs or space // factor < self.highs[leader][0]

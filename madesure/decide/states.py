@@ -95,7 +95,7 @@ class State:
             if failed is None:
                 return filling, None
             wanted = self._surely_made(filling, stock) or [failed]
-            if failed not in sizes:
+            if failed not in sizes or sizes[failed] == bounds.highs[failed][0]:
                 break
             bounds = bounds.bounded(failed, False, sizes[failed] + 1)
         if wanted is None:

@@ -1,6 +1,7 @@
 """The trees of a kind by rising size, however great the least ones are, and how many there are in all."""
 
 from madesure.kinds.kinds import MARK, least_sizes, size_made
+from madesure.trees.worths import Worths
 
 FIRST_MANY = 4
 
@@ -8,11 +9,14 @@ FIRST_MANY = 4
 class Smallest:
     """For each kind some of its smallest trees, by rising size: more of them whenever more are asked for.
 
-    rows has for each kind its (size, tree)s, as many as are looked at, or all that there are.
+    Of one size they stand by makers, then by the places that their parts have in this order: so those
+    that were told stay where they were. rows has for each kind the numbers of its trees among worths,
+    as many as are looked at, or all that there are.
     """
 
     def __init__(self, kinds):
         self.kinds = kinds
+        self.worths = Worths()
         self.looked = 0
         self.rows = {}
 
@@ -22,40 +26,40 @@ class Smallest:
             self.looked = max(FIRST_MANY, 2 * self.looked)
             self._look()
         rows = self.rows[kind]
-        return rows[number][1] if number < len(rows) else None
+        return self.worths.trees[rows[number]] if number < len(rows) else None
 
     def _look(self):
-        """Find as many trees of each kind as are looked at, by those of its parts, until none is smaller."""
+        """Find as many trees of each kind as are looked at, by those of its parts, until none changes."""
         self.rows = {kind: [] for kind, _ in self.kinds}
-        self.rows[MARK] = [(1, mark) for mark in range(self.looked)]
+        self.rows[MARK] = [self.worths.of_mark(mark) for mark in range(self.looked)]
         is_changed = True
         while is_changed:
             is_changed = False
             for kind, makers in self.kinds:
                 found = self._found(makers)
-                if [size for size, _ in found] != [size for size, _ in self.rows[kind]]:
+                if found != self.rows[kind]:
                     self.rows[kind] = found
                     is_changed = True
 
     def _found(self, makers):
         found = []
         for maker, parts in makers:
-            found.extend([(size, (maker, *trees)) for size, trees in self._parts_found(parts)])
+            found.extend([(size, maker, own) for size, own in self._parts_found(parts)])
         found = sorted(found, key=lambda row: row[0])
-        return found[:self.looked]
+        return [self.worths.of_made(maker, own) for _, maker, own in found[:self.looked]]
 
     def _parts_found(self, parts):
-        """Tell (size, trees) of rows of parts, a maker counted with them.
+        """Tell (size, numbers) of rows of parts, a maker counted with them.
 
-        Of trees with places i, j in order of size there are i times j that are no greater, counted
-        from 1: beyond as many as are looked at, they need not be.
+        Ahead of trees with the places i, j in order there are at least i times j rows, themselves
+        too, counted from 1: beyond as many as are looked at, they need not be.
         """
         rows = [(1, 1, ())]
         for part in parts:
             own = self.rows[part]
-            rows = [(places * (at + 1), size + own[at][0], (*trees, own[at][1])) for places, size, trees in rows
-                    for at in range(min(len(own), self.looked // places))]
-        return [(size, trees) for _, size, trees in rows]
+            rows = [(places * (at + 1), size + self.worths.sizes[own[at]], (*numbers, own[at]))
+                    for places, size, numbers in rows for at in range(min(len(own), self.looked // places))]
+        return [(size, numbers) for _, size, numbers in rows]
 
 
 def counts_of(kinds):
