@@ -328,6 +328,19 @@ def depth_of(thing):
     return depth
 
 
+def great_size(tree):
+    """The size of a tree in which parts stand in many places."""
+    sizes = {}
+
+    def size_of(node):
+        if isinstance(node, int):
+            return 1
+        if id(node) not in sizes:
+            sizes[id(node)] = 1 + sum(size_of(part) for part in node[1:])
+        return sizes[id(node)]
+    return size_of(tree)
+
+
 def fits_plainly(sheet, answer):
     """Whether a dict is an answer by which all formulas hold."""
     if set(answer) != {name for name, _, _ in sheet[1]}:

@@ -10,8 +10,8 @@ from madesure.errors import TooWide
 from madesure.papers.papers import length_of, shows_no, thinned
 from madesure.terms.meaning import first_false, is_answer
 from samples import (ALL_KINDS, BINARY, CHAIN, DAYS, GREAT, LATER, LEAF, LISTS, MIXED, NEVER, SHEET, all_of, answers_to,
-                     chain_of, chain_on, check_sheets_refused, depth_of, doubled, exactly, fits_plainly, near_sheet, plain_holds,
-                     plain_size, random_sheet, refusal, spoiled, spoiled_by_lists, trees_in_order, unlike)
+                     chain_of, chain_on, check_sheets_refused, depth_of, doubled, exactly, fits_plainly, great_size, near_sheet,
+                     plain_holds, plain_size, random_sheet, refusal, spoiled, spoiled_by_lists, trees_in_order, unlike)
 
 WIDE = 10 ** 30
 FREE = tuple((name, "tree", None) for name in "xyzuvw")
@@ -173,6 +173,20 @@ class DecideTest(CheckedCase):
         self.decided(chain_sheet((12, 12, 12), *exactly(3, (3, "x"), (6, "y"), (-9, "z"))), "yes")
         self.decided(chain_sheet((40, 40), *exactly(1, (3, "x"), (-7, "y")), *exactly(3, (5, "x"), (-6, "y"))), "no")
 
+    def test_by_each_size_there_is(self):
+        sizes = range(1, 7)
+        for factors in ((3, 5), (4, -3), (7, 2), (5, -9)):
+            for number in range(-40, 60, 3):
+                wanted = [(x, y) for x in sizes for y in sizes if factors[0] * x + factors[1] * y == number]
+                told = self.decided(chain_sheet((6, 6), *exactly(number, (factors[0], "x"), (factors[1], "y"))), "yes" if wanted else "no")
+                if wanted:
+                    self.assertIn((depth_of(told["x"]), depth_of(told["y"])), wanted)
+        # One of each size alone, however the bounds are halved.
+        for x, y, z in product((1, 2, 5, 8, 9), repeat=3):
+            rows = exactly(9 * x - 7 * y, (9, "x"), (-7, "y")) + exactly(8 * y - 9 * z, (8, "y"), (-9, "z")) + exactly(x + y + z, (1, "x"), (1, "y"), (1, "z"))
+            told = self.decided(chain_sheet((9, 9, 9), *rows), "yes")
+            self.assertEqual([depth_of(told[name]) for name in "xyz"], [x, y, z])
+
     def test_parts_that_have_no_most_yet(self):
         # Where the part is of a tree made otherwise, nothing bounds it: its least size could be raised for ever.
         sheet = (MIXED, (("b", "box", 12),), exactly(1, (3, part(2, "b", "wrap")), (-3, part(0, "b", "bare"))))
@@ -240,8 +254,15 @@ class GreatTest(CheckedCase):
         for one, other in ((("same", "v", doubled("w", 5)), ("same", "y", "x")), (("same", "y", "x"), ("same", "v", doubled("w", 5)))):
             sheet = tree_sheet(("either", one, other), *rows)
             told = decide(sheet)
-            self.assertLess(plain_size(told[1]["u"]), 10 ** 5)
+            self.assertLess(max(great_size(tree) for tree in told[1].values()), 10 ** 5)
             self.assertIs(shows(sheet, told), True)
+        # The great one is told where the others are shut, first or last or both times.
+        for one, other in product((("same", "v", doubled("w", 5)), ("same", "y", "u")), repeat=2):
+            told = decide(tree_sheet(("either", one, other), ("either", ("sum", (), -1), ("sum", (), 0)), *rows))
+            if one[1] == other[1] == "y":
+                self.assertEqual(told[0], "no")
+            else:
+                self.assertEqual(great_size(told[1]["y"]), 2 ** 21 - 1)
         # Of the one that stands most often the least tree is told.
         sheet = tree_sheet(("same", "x", doubled("y", 7)), ("same", "y", doubled("z", 8)), unlike("z", "u"), unlike("u", LEAF),
                            names=FREE[:4])
