@@ -228,6 +228,29 @@ class DecideTest(CheckedCase):
         self.decided((BINARY, (("x", "tree", 4), ("y", "tree", 4)), exactly(0, (1, "x"), (-1, "y")) + (unlike("x", "y"),)), "no")
         self.decided((BINARY, (("x", "tree", 5), ("y", "tree", 5)), exactly(0, (1, "x"), (-1, "y")) + (unlike("x", "y"),)), "yes")
 
+    def test_what_is_told_of_eithers_already(self):
+        """One of an either's two is told not to hold: so the other one is."""
+        both = ("both", ("same", "x", LEAF), ("test", "leaf", "x"))
+        nodes = [("node", "x", "u"), ("node", "y", "u"), ("node", LEAF, "u"), ("node", part(0, "x"), "u")]
+        facts = (("test", "leaf", "x"), ("same", "y", "x"), unlike("v", "w"))
+        for inner in (("either", ("test", "node", "x"), ("same", "x", ("node", "u", "u"))), ("both", ("same", "x", "x"), ("test", "node", "y")),
+                      ("not", both), ("not", ("either", both, ("same", "v", "w"))), ("not", ("not", ("same", "v", "w"))), ("same", "w", "v"),
+                      ("not", ("same", nodes[0], nodes[1])), ("not", ("same", nodes[1], nodes[2])), ("not", ("same", nodes[2], nodes[3])),
+                      ("not", ("same", ("node", "v", nodes[0]), ("node", "v", nodes[1]))), ("same", LEAF, nodes[0]), ("same", nodes[0], "y"),
+                      ("same", nodes[0], ("node", "x", ("node", "u", "u"))), ("not", ("same", "x", "y")), ("not", ("same", "u", "u")),
+                      ("same", ("node", "v", "x"), ("node", "w", "x")), ("test", "leaf", nodes[2]), ("sum", (), -1), ("sum", ((1, LEAF),), 0)):
+            for wanted in (("test", "node", "z"), ("both", ("test", "node", "z"), ("same", "u", "u"))):
+                for either in (("either", inner, wanted), ("either", wanted, inner), ("not", ("both", ("not", inner), ("not", wanted)))):
+                    told = self.decided(tree_sheet(*facts, either), "yes")
+                    self.assertEqual(told["z"][0], "node", either)
+                    self.decided(tree_sheet(either, *facts, ("test", "leaf", "z")), "no")
+        # What holds for sure need be no case: each of these goes on without one.
+        for inner in (("same", "x", "y"), ("test", "leaf", "y"), ("not", ("same", "v", "w")), ("not", ("test", "node", "y")), both,
+                      ("either", ("test", "node", "x"), ("same", "x", "y")), ("same", nodes[0], nodes[1])):
+            rows = facts + (("either", inner, ("test", "node", "z")),) * 5 + (("same", "u", ("node", "u", "u")),)
+            self.assertEqual(length_of(self.decided(tree_sheet(*rows), "no")), 2)
+            self.assertEqual(self.decided(tree_sheet(*rows[:-1]), "yes")["z"], LEAF)
+
     def test_what_does_not_matter_is_no_case(self):
         # The first nine cannot hold back what the last one tells.
         rows = [("either", ("test", "leaf", name), ("test", "node", part(0, name))) for name in "xyzuvwxyz"]
@@ -264,9 +287,10 @@ class GreatTest(CheckedCase):
             else:
                 self.assertEqual(great_size(told[1]["y"]), 2 ** 21 - 1)
         # Of the one that stands most often the least tree is told.
-        sheet = tree_sheet(("same", "x", doubled("y", 7)), ("same", "y", doubled("z", 8)), unlike("z", "u"), unlike("u", LEAF),
-                           names=FREE[:4])
-        self.assertEqual(decide(sheet)[1]["z"], LEAF)
+        for order in ("xyzu", "uzyx", "zuxy"):
+            names = tuple((name, "tree", None) for name in order)
+            sheet = tree_sheet(("same", "x", doubled("y", 7)), ("same", "y", doubled("z", 8)), unlike("z", "u"), names=names)
+            self.assertEqual(decide(sheet)[1]["z"], LEAF, order)
 
     def test_no_deeper_than_need_be(self):
         rows = [unlike(chain_on(one, at), chain_on(other, its)) for one, other in combinations("xyzuvw", 2)
