@@ -181,6 +181,12 @@ class DecideTest(CheckedCase):
                 told = self.decided(chain_sheet((6, 6), *exactly(number, (factors[0], "x"), (factors[1], "y"))), "yes" if wanted else "no")
                 if wanted:
                     self.assertIn((depth_of(told["x"]), depth_of(told["y"])), wanted)
+        for factors in ((4, 6, 9), (6, 9, -4), (9, -7, 5), (8, 9, -6)):
+            for number in range(-30, 90):
+                wanted = [row for row in product(range(1, 6), repeat=3) if sum(one * other for one, other in zip(factors, row)) == number]
+                told = self.decided(chain_sheet((5, 5, 5), *exactly(number, *zip(factors, "xyz"))), "yes" if wanted else "no")
+                if wanted:
+                    self.assertIn(tuple(depth_of(told[name]) for name in "xyz"), wanted)
         # One of each size alone, however the bounds are halved.
         for x, y, z in product((1, 2, 5, 8, 9), repeat=3):
             rows = exactly(9 * x - 7 * y, (9, "x"), (-7, "y")) + exactly(8 * y - 9 * z, (8, "y"), (-9, "z")) + exactly(x + y + z, (1, "x"), (1, "y"), (1, "z"))
